@@ -6,32 +6,33 @@ import (
 
 	"fulling/api"
 	"fulling/parser"
+	"fulling/testtrees"
 )
 
 // Promise 3.2: numbers, variables, elements and parentheses.
 
 func TestOperands(t *testing.T) {
-	x := variable("x")
+	x := testtrees.Var("x")
 	for text, want := range map[string]api.Expr{
-		"0":                     num(0),
-		"7":                     num(7),
-		"1000001":               num(1000001),
-		"9223372036854775807":   num(1<<63 - 1),
+		"0":                     testtrees.Num(0),
+		"7":                     testtrees.Num(7),
+		"1000001":               testtrees.Num(1000001),
+		"9223372036854775807":   testtrees.Num(1<<63 - 1),
 		"x":                     x,
-		"_":                     variable("_"),
-		"Ab_9":                  variable("Ab_9"),
-		"x[0]":                  element("x", num(0)),
-		"x [ x ]":               element("x", x),
-		"x[y[z[1]]]":            element("x", element("y", element("z", num(1)))),
-		"x[-1]":                 element("x", num(-1)),
-		"x[1 + 2]":              element("x", op(api.OpAdd, num(1), num(2))),
-		"x[a ? 1 : 2]":          element("x", cond(variable("a"), num(1), num(2))),
+		"_":                     testtrees.Var("_"),
+		"Ab_9":                  testtrees.Var("Ab_9"),
+		"x[0]":                  testtrees.Element("x", testtrees.Num(0)),
+		"x [ x ]":               testtrees.Element("x", x),
+		"x[y[z[1]]]":            testtrees.Element("x", testtrees.Element("y", testtrees.Element("z", testtrees.Num(1)))),
+		"x[-1]":                 testtrees.Element("x", testtrees.Num(-1)),
+		"x[1 + 2]":              testtrees.Element("x", testtrees.Op(api.OpAdd, testtrees.Num(1), testtrees.Num(2))),
+		"x[a ? 1 : 2]":          testtrees.Element("x", testtrees.Cond(testtrees.Var("a"), testtrees.Num(1), testtrees.Num(2))),
 		"(x)":                   x,
 		"(((x)))":               x,
-		"(0)":                   num(0),
-		"(x[(0)])":              element("x", num(0)),
-		"(a ? 1 : 2)":           cond(variable("a"), num(1), num(2)),
-		"x # ] \n [ # [ \n 0 ]": element("x", num(0)),
+		"(0)":                   testtrees.Num(0),
+		"(x[(0)])":              testtrees.Element("x", testtrees.Num(0)),
+		"(a ? 1 : 2)":           testtrees.Cond(testtrees.Var("a"), testtrees.Num(1), testtrees.Num(2)),
+		"x # ] \n [ # [ \n 0 ]": testtrees.Element("x", testtrees.Num(0)),
 	} {
 		checkExpression(t, text, want)
 	}
@@ -55,52 +56,52 @@ func TestNameBeforeParenthesis(t *testing.T) {
 // Promise 3.2: the minus before a number.
 
 func TestMinusAndNumbers(t *testing.T) {
-	x, smallest := variable("x"), num(-1<<63)
-	neg := func(e api.Expr) api.Expr { return op(api.OpNeg, e) }
+	x, smallest := testtrees.Var("x"), testtrees.Num(-1<<63)
+	neg := func(e api.Expr) api.Expr { return testtrees.Op(api.OpNeg, e) }
 	for text, want := range map[string]api.Expr{
-		"-0":                             num(0),
-		"- 0":                            num(0),
-		"-1":                             num(-1),
-		"- 5":                            num(-5),
-		"-\t\n5":                         num(-5),
-		"-# c\n5":                        num(-5),
-		"- # - 6\n # 7\n5":               num(-5),
-		"-9223372036854775807":           num(-1<<63 + 1),
+		"-0":                             testtrees.Num(0),
+		"- 0":                            testtrees.Num(0),
+		"-1":                             testtrees.Num(-1),
+		"- 5":                            testtrees.Num(-5),
+		"-\t\n5":                         testtrees.Num(-5),
+		"-# c\n5":                        testtrees.Num(-5),
+		"- # - 6\n # 7\n5":               testtrees.Num(-5),
+		"-9223372036854775807":           testtrees.Num(-1<<63 + 1),
 		"-9223372036854775808":           smallest,
 		"- # c\n9223372036854775808":     smallest,
-		"-(5)":                           neg(num(5)),
-		"-(0)":                           neg(num(0)),
-		"-(-5)":                          neg(num(-5)),
-		"- -5":                           neg(num(-5)),
-		"--5":                            neg(num(-5)),
-		"--0":                            neg(num(0)),
-		"---5":                           neg(neg(num(-5))),
+		"-(5)":                           neg(testtrees.Num(5)),
+		"-(0)":                           neg(testtrees.Num(0)),
+		"-(-5)":                          neg(testtrees.Num(-5)),
+		"- -5":                           neg(testtrees.Num(-5)),
+		"--5":                            neg(testtrees.Num(-5)),
+		"--0":                            neg(testtrees.Num(0)),
+		"---5":                           neg(neg(testtrees.Num(-5))),
 		"- -9223372036854775808":         neg(smallest),
 		"-(-9223372036854775808)":        neg(smallest),
 		"(-9223372036854775808)":         smallest,
-		"x[-9223372036854775808]":        element("x", smallest),
+		"x[-9223372036854775808]":        testtrees.Element("x", smallest),
 		"-x":                             neg(x),
-		"-x[5]":                          neg(element("x", num(5))),
-		"2 - 3":                          op(api.OpSub, num(2), num(3)),
-		"2-3":                            op(api.OpSub, num(2), num(3)),
-		"2 -3":                           op(api.OpSub, num(2), num(3)),
-		"2 - -3":                         op(api.OpSub, num(2), num(-3)),
-		"2--3":                           op(api.OpSub, num(2), num(-3)),
-		"2 - - -3":                       op(api.OpSub, num(2), neg(num(-3))),
-		"-2 - 3":                         op(api.OpSub, num(-2), num(3)),
-		"x - 3":                          op(api.OpSub, x, num(3)),
-		"x[1]-3":                         op(api.OpSub, element("x", num(1)), num(3)),
-		"(2)-3":                          op(api.OpSub, num(2), num(3)),
-		"2 - -9223372036854775808":       op(api.OpSub, num(2), smallest),
-		"2 * -3":                         op(api.OpMul, num(2), num(-3)),
-		"-2 * 3":                         op(api.OpMul, num(-2), num(3)),
-		"~-5":                            op(api.OpNot, num(-5)),
-		"-~5":                            neg(op(api.OpNot, num(5))),
-		"!-5":                            op(api.OpEq, num(-5), num(0)),
-		"-!5":                            neg(op(api.OpEq, num(5), num(0))),
-		"~-9223372036854775808":          op(api.OpNot, smallest),
-		"x ? -1 : -9223372036854775808":  cond(x, num(-1), smallest),
-		"-9223372036854775808 ? -1 : -0": cond(smallest, num(-1), num(0)),
+		"-x[5]":                          neg(testtrees.Element("x", testtrees.Num(5))),
+		"2 - 3":                          testtrees.Op(api.OpSub, testtrees.Num(2), testtrees.Num(3)),
+		"2-3":                            testtrees.Op(api.OpSub, testtrees.Num(2), testtrees.Num(3)),
+		"2 -3":                           testtrees.Op(api.OpSub, testtrees.Num(2), testtrees.Num(3)),
+		"2 - -3":                         testtrees.Op(api.OpSub, testtrees.Num(2), testtrees.Num(-3)),
+		"2--3":                           testtrees.Op(api.OpSub, testtrees.Num(2), testtrees.Num(-3)),
+		"2 - - -3":                       testtrees.Op(api.OpSub, testtrees.Num(2), neg(testtrees.Num(-3))),
+		"-2 - 3":                         testtrees.Op(api.OpSub, testtrees.Num(-2), testtrees.Num(3)),
+		"x - 3":                          testtrees.Op(api.OpSub, x, testtrees.Num(3)),
+		"x[1]-3":                         testtrees.Op(api.OpSub, testtrees.Element("x", testtrees.Num(1)), testtrees.Num(3)),
+		"(2)-3":                          testtrees.Op(api.OpSub, testtrees.Num(2), testtrees.Num(3)),
+		"2 - -9223372036854775808":       testtrees.Op(api.OpSub, testtrees.Num(2), smallest),
+		"2 * -3":                         testtrees.Op(api.OpMul, testtrees.Num(2), testtrees.Num(-3)),
+		"-2 * 3":                         testtrees.Op(api.OpMul, testtrees.Num(-2), testtrees.Num(3)),
+		"~-5":                            testtrees.Op(api.OpNot, testtrees.Num(-5)),
+		"-~5":                            neg(testtrees.Op(api.OpNot, testtrees.Num(5))),
+		"!-5":                            testtrees.Op(api.OpEq, testtrees.Num(-5), testtrees.Num(0)),
+		"-!5":                            neg(testtrees.Op(api.OpEq, testtrees.Num(5), testtrees.Num(0))),
+		"~-9223372036854775808":          testtrees.Op(api.OpNot, smallest),
+		"x ? -1 : -9223372036854775808":  testtrees.Cond(x, testtrees.Num(-1), smallest),
+		"-9223372036854775808 ? -1 : -0": testtrees.Cond(smallest, testtrees.Num(-1), testtrees.Num(0)),
 	} {
 		checkExpression(t, text, want)
 	}
@@ -118,19 +119,19 @@ func TestSmallestWordNeedsItsMinus(t *testing.T) {
 // Promise 3.2: the prefix operators.
 
 func TestPrefixOperators(t *testing.T) {
-	x := variable("x")
-	neg := func(e api.Expr) api.Expr { return op(api.OpNeg, e) }
-	not := func(e api.Expr) api.Expr { return op(api.OpNot, e) }
-	isZero := func(e api.Expr) api.Expr { return op(api.OpEq, e, num(0)) }
+	x := testtrees.Var("x")
+	neg := func(e api.Expr) api.Expr { return testtrees.Op(api.OpNeg, e) }
+	not := func(e api.Expr) api.Expr { return testtrees.Op(api.OpNot, e) }
+	isZero := func(e api.Expr) api.Expr { return testtrees.Op(api.OpEq, e, testtrees.Num(0)) }
 	for text, want := range map[string]api.Expr{
-		"-x": neg(x), "~x": not(x), "!x": isZero(x), "~5": not(num(5)), "!5": isZero(num(5)), "!0": isZero(num(0)), "~0": not(num(0)),
+		"-x": neg(x), "~x": not(x), "!x": isZero(x), "~5": not(testtrees.Num(5)), "!5": isZero(testtrees.Num(5)), "!0": isZero(testtrees.Num(0)), "~0": not(testtrees.Num(0)),
 		"--x": neg(neg(x)), "~~x": not(not(x)), "!!x": isZero(isZero(x)), "! ! !x": isZero(isZero(isZero(x))),
 		"-~!x": neg(not(isZero(x))), "!~-x": isZero(not(neg(x))), "~-x": not(neg(x)),
 		"-(x)": neg(x), "~(x)": not(x), "!(x)": isZero(x),
-		"-(x + 1)": neg(op(api.OpAdd, x, num(1))), "!(x == 0)": isZero(isZero(x)), "~(x ? 1 : 2)": not(cond(x, num(1), num(2))),
-		"-x[1]": neg(element("x", num(1))), "~x[1]": not(element("x", num(1))), "!x[1]": isZero(element("x", num(1))),
-		"-x ? ~x : !x": cond(neg(x), not(x), isZero(x)),
-		"!x == 0":      isZero(isZero(x)), "!x != x": op(api.OpNe, isZero(x), x), "x !=!x": op(api.OpNe, x, isZero(x)),
+		"-(x + 1)": neg(testtrees.Op(api.OpAdd, x, testtrees.Num(1))), "!(x == 0)": isZero(isZero(x)), "~(x ? 1 : 2)": not(testtrees.Cond(x, testtrees.Num(1), testtrees.Num(2))),
+		"-x[1]": neg(testtrees.Element("x", testtrees.Num(1))), "~x[1]": not(testtrees.Element("x", testtrees.Num(1))), "!x[1]": isZero(testtrees.Element("x", testtrees.Num(1))),
+		"-x ? ~x : !x": testtrees.Cond(neg(x), not(x), isZero(x)),
+		"!x == 0":      isZero(isZero(x)), "!x != x": testtrees.Op(api.OpNe, isZero(x), x), "x !=!x": testtrees.Op(api.OpNe, x, isZero(x)),
 	} {
 		checkExpression(t, text, want)
 	}
@@ -140,11 +141,11 @@ func TestPrefixOperators(t *testing.T) {
 }
 
 func TestPrefixOperatorsBindMoreThanBinaryOnes(t *testing.T) {
-	a, b := variable("a"), variable("b")
+	a, b := testtrees.Var("a"), testtrees.Var("b")
 	prefixes := map[string]func(api.Expr) api.Expr{
-		"-": func(e api.Expr) api.Expr { return op(api.OpNeg, e) },
-		"~": func(e api.Expr) api.Expr { return op(api.OpNot, e) },
-		"!": func(e api.Expr) api.Expr { return op(api.OpEq, e, num(0)) },
+		"-": func(e api.Expr) api.Expr { return testtrees.Op(api.OpNeg, e) },
+		"~": func(e api.Expr) api.Expr { return testtrees.Op(api.OpNot, e) },
+		"!": func(e api.Expr) api.Expr { return testtrees.Op(api.OpEq, e, testtrees.Num(0)) },
 	}
 	for prefix, apply := range prefixes {
 		for _, symbol := range binarySymbols() {
@@ -158,14 +159,14 @@ func TestPrefixOperatorsBindMoreThanBinaryOnes(t *testing.T) {
 // Promise 3.2: the binary operators.
 
 func TestEachBinaryOperator(t *testing.T) {
-	a, b := variable("a"), variable("b")
+	a, b := testtrees.Var("a"), testtrees.Var("b")
 	for text, want := range map[string]api.Expr{
-		"a | b": op(api.OpOr, a, b), "a ^ b": op(api.OpXor, a, b), "a & b": op(api.OpAnd, a, b),
-		"a == b": op(api.OpEq, a, b), "a != b": op(api.OpNe, a, b),
-		"a < b": op(api.OpLt, a, b), "a <= b": op(api.OpLe, a, b), "a > b": op(api.OpLt, b, a), "a >= b": op(api.OpLe, b, a),
-		"a << b": op(api.OpShl, a, b), "a >> b": op(api.OpSar, a, b), "a >>> b": op(api.OpShr, a, b),
-		"a + b": op(api.OpAdd, a, b), "a - b": op(api.OpSub, a, b),
-		"a * b": op(api.OpMul, a, b), "a / b": op(api.OpDiv, a, b), "a % b": op(api.OpRem, a, b),
+		"a | b": testtrees.Op(api.OpOr, a, b), "a ^ b": testtrees.Op(api.OpXor, a, b), "a & b": testtrees.Op(api.OpAnd, a, b),
+		"a == b": testtrees.Op(api.OpEq, a, b), "a != b": testtrees.Op(api.OpNe, a, b),
+		"a < b": testtrees.Op(api.OpLt, a, b), "a <= b": testtrees.Op(api.OpLe, a, b), "a > b": testtrees.Op(api.OpLt, b, a), "a >= b": testtrees.Op(api.OpLe, b, a),
+		"a << b": testtrees.Op(api.OpShl, a, b), "a >> b": testtrees.Op(api.OpSar, a, b), "a >>> b": testtrees.Op(api.OpShr, a, b),
+		"a + b": testtrees.Op(api.OpAdd, a, b), "a - b": testtrees.Op(api.OpSub, a, b),
+		"a * b": testtrees.Op(api.OpMul, a, b), "a / b": testtrees.Op(api.OpDiv, a, b), "a % b": testtrees.Op(api.OpRem, a, b),
 	} {
 		checkExpression(t, text, want)
 		checkExpression(t, strings.ReplaceAll(text, " ", ""), want)
@@ -197,7 +198,7 @@ func grouped(operands []api.Expr, symbols []string) api.Expr {
 }
 
 func TestPairsOfBinaryOperators(t *testing.T) {
-	a, b, c := variable("a"), variable("b"), variable("c")
+	a, b, c := testtrees.Var("a"), testtrees.Var("b"), testtrees.Var("c")
 	for _, first := range binarySymbols() {
 		for _, second := range binarySymbols() {
 			left, right := binary(second, binary(first, a, b), c), binary(first, a, binary(second, b, c))
@@ -213,7 +214,7 @@ func TestPairsOfBinaryOperators(t *testing.T) {
 }
 
 func TestTriplesOfBinaryOperators(t *testing.T) {
-	operands := []api.Expr{variable("a"), element("b", num(1)), num(-2), variable("d")}
+	operands := []api.Expr{testtrees.Var("a"), testtrees.Element("b", testtrees.Num(1)), testtrees.Num(-2), testtrees.Var("d")}
 	for _, first := range binarySymbols() {
 		for _, second := range binarySymbols() {
 			for _, third := range binarySymbols() {
@@ -226,19 +227,19 @@ func TestTriplesOfBinaryOperators(t *testing.T) {
 
 func TestLongChains(t *testing.T) {
 	for _, symbol := range binarySymbols() {
-		text, want := "x", variable("x")
+		text, want := "x", testtrees.Var("x")
 		for i := range int64(100) {
 			text += symbol + "1" + strings.Repeat("0", int(i%5))
-			want = binary(symbol, want, num([]int64{1, 10, 100, 1000, 10000}[i%5]))
+			want = binary(symbol, want, testtrees.Num([]int64{1, 10, 100, 1000, 10000}[i%5]))
 		}
 		checkExpression(t, text, want)
 	}
 	// From the lowest level to the highest, and back.
 	symbols := []string{"|", "^", "&", "!=", ">=", ">>>", "-", "%", "/", "+", "<<", "<", "==", "&", "^", "|"}
-	text, operands := "0", []api.Expr{num(0)}
+	text, operands := "0", []api.Expr{testtrees.Num(0)}
 	for i, symbol := range symbols {
 		text += " " + symbol + " " + "abcdefghijklmnop"[i:i+1]
-		operands = append(operands, variable("abcdefghijklmnop"[i:i+1]))
+		operands = append(operands, testtrees.Var("abcdefghijklmnop"[i:i+1]))
 	}
 	checkExpression(t, text, grouped(operands, symbols))
 }
@@ -246,24 +247,24 @@ func TestLongChains(t *testing.T) {
 // Promise 3.2: conditional expressions.
 
 func TestConditionalExpressions(t *testing.T) {
-	a, b, c, d, e := variable("a"), variable("b"), variable("c"), variable("d"), variable("e")
+	a, b, c, d, e := testtrees.Var("a"), testtrees.Var("b"), testtrees.Var("c"), testtrees.Var("d"), testtrees.Var("e")
 	for text, want := range map[string]api.Expr{
-		"a ? b : c":                     cond(a, b, c),
-		"a?b:c":                         cond(a, b, c),
-		"(a) ? (b) : (c)":               cond(a, b, c),
-		"a ? b : c ? d : e":             cond(a, b, cond(c, d, e)),
-		"a ? b : (c ? d : e)":           cond(a, b, cond(c, d, e)),
-		"(a ? b : c) ? d : e":           cond(cond(a, b, c), d, e),
-		"a ? b ? c : d : e":             cond(a, cond(b, c, d), e),
-		"a ? (b ? c : d) : e":           cond(a, cond(b, c, d), e),
-		"a ? b ? 1 : 2 : c ? 3 : 4":     cond(a, cond(b, num(1), num(2)), cond(c, num(3), num(4))),
-		"(a ? 1 : 2) ? b ? 3 : 4 : 5":   cond(cond(a, num(1), num(2)), cond(b, num(3), num(4)), num(5)),
-		"a ? b ? c ? 1 : 2 : 3 : 4":     cond(a, cond(b, cond(c, num(1), num(2)), num(3)), num(4)),
-		"a ? 1 : b ? 2 : c ? 3 : 4":     cond(a, num(1), cond(b, num(2), cond(c, num(3), num(4)))),
-		"((a ? 1 : b) ? 2 : c) ? 3 : 4": cond(cond(cond(a, num(1), b), num(2), c), num(3), num(4)),
-		"x[a ? b : c] ? d : e":          cond(element("x", cond(a, b, c)), d, e),
-		"-a ? -b : -1":                  cond(op(api.OpNeg, a), op(api.OpNeg, b), num(-1)),
-		"-(a ? b : c)":                  op(api.OpNeg, cond(a, b, c)),
+		"a ? b : c":                     testtrees.Cond(a, b, c),
+		"a?b:c":                         testtrees.Cond(a, b, c),
+		"(a) ? (b) : (c)":               testtrees.Cond(a, b, c),
+		"a ? b : c ? d : e":             testtrees.Cond(a, b, testtrees.Cond(c, d, e)),
+		"a ? b : (c ? d : e)":           testtrees.Cond(a, b, testtrees.Cond(c, d, e)),
+		"(a ? b : c) ? d : e":           testtrees.Cond(testtrees.Cond(a, b, c), d, e),
+		"a ? b ? c : d : e":             testtrees.Cond(a, testtrees.Cond(b, c, d), e),
+		"a ? (b ? c : d) : e":           testtrees.Cond(a, testtrees.Cond(b, c, d), e),
+		"a ? b ? 1 : 2 : c ? 3 : 4":     testtrees.Cond(a, testtrees.Cond(b, testtrees.Num(1), testtrees.Num(2)), testtrees.Cond(c, testtrees.Num(3), testtrees.Num(4))),
+		"(a ? 1 : 2) ? b ? 3 : 4 : 5":   testtrees.Cond(testtrees.Cond(a, testtrees.Num(1), testtrees.Num(2)), testtrees.Cond(b, testtrees.Num(3), testtrees.Num(4)), testtrees.Num(5)),
+		"a ? b ? c ? 1 : 2 : 3 : 4":     testtrees.Cond(a, testtrees.Cond(b, testtrees.Cond(c, testtrees.Num(1), testtrees.Num(2)), testtrees.Num(3)), testtrees.Num(4)),
+		"a ? 1 : b ? 2 : c ? 3 : 4":     testtrees.Cond(a, testtrees.Num(1), testtrees.Cond(b, testtrees.Num(2), testtrees.Cond(c, testtrees.Num(3), testtrees.Num(4)))),
+		"((a ? 1 : b) ? 2 : c) ? 3 : 4": testtrees.Cond(testtrees.Cond(testtrees.Cond(a, testtrees.Num(1), b), testtrees.Num(2), c), testtrees.Num(3), testtrees.Num(4)),
+		"x[a ? b : c] ? d : e":          testtrees.Cond(testtrees.Element("x", testtrees.Cond(a, b, c)), d, e),
+		"-a ? -b : -1":                  testtrees.Cond(testtrees.Op(api.OpNeg, a), testtrees.Op(api.OpNeg, b), testtrees.Num(-1)),
+		"-(a ? b : c)":                  testtrees.Op(api.OpNeg, testtrees.Cond(a, b, c)),
 	} {
 		checkExpression(t, text, want)
 	}
@@ -275,26 +276,26 @@ func TestConditionalExpressions(t *testing.T) {
 }
 
 func TestConditionalExpressionsBindLeast(t *testing.T) {
-	a, b, c, d := variable("a"), variable("b"), variable("c"), variable("d")
+	a, b, c, d := testtrees.Var("a"), testtrees.Var("b"), testtrees.Var("c"), testtrees.Var("d")
 	for _, symbol := range binarySymbols() {
-		checkExpression(t, "a "+symbol+" b ? c : d", cond(binary(symbol, a, b), c, d))
-		checkExpression(t, "a ? b "+symbol+" c : d", cond(a, binary(symbol, b, c), d))
-		checkExpression(t, "a ? b : c "+symbol+" d", cond(a, b, binary(symbol, c, d)))
-		checkExpression(t, "a "+symbol+" (b ? c : d)", binary(symbol, a, cond(b, c, d)))
-		checkExpression(t, "(a ? b : c) "+symbol+" d", binary(symbol, cond(a, b, c), d))
+		checkExpression(t, "a "+symbol+" b ? c : d", testtrees.Cond(binary(symbol, a, b), c, d))
+		checkExpression(t, "a ? b "+symbol+" c : d", testtrees.Cond(a, binary(symbol, b, c), d))
+		checkExpression(t, "a ? b : c "+symbol+" d", testtrees.Cond(a, b, binary(symbol, c, d)))
+		checkExpression(t, "a "+symbol+" (b ? c : d)", binary(symbol, a, testtrees.Cond(b, c, d)))
+		checkExpression(t, "(a ? b : c) "+symbol+" d", binary(symbol, testtrees.Cond(a, b, c), d))
 	}
 }
 
 // Promise 3.2, in each place of a program that has an expression.
 
 func TestPlacesOfExpressions(t *testing.T) {
-	text, want := "a | 1 ? -b[2] : !c >= 3", cond(op(api.OpOr, variable("a"), num(1)), op(api.OpNeg, element("b", num(2))), op(api.OpLe, num(3), op(api.OpEq, variable("c"), num(0))))
+	text, want := "a | 1 ? -b[2] : !c >= 3", testtrees.Cond(testtrees.Op(api.OpOr, testtrees.Var("a"), testtrees.Num(1)), testtrees.Op(api.OpNeg, testtrees.Element("b", testtrees.Num(2))), testtrees.Op(api.OpLe, testtrees.Num(3), testtrees.Op(api.OpEq, testtrees.Var("c"), testtrees.Num(0))))
 	for place, stmt := range map[string]api.Stmt{
 		"x = E;":        {Kind: api.StmtAssign, Name: "x", Value: want},
-		"x[E] = 1;":     {Kind: api.StmtStore, Name: "x", At: want, Value: num(1)},
-		"x[1] = E;":     {Kind: api.StmtStore, Name: "x", At: num(1), Value: want},
+		"x[E] = 1;":     {Kind: api.StmtStore, Name: "x", At: want, Value: testtrees.Num(1)},
+		"x[1] = E;":     {Kind: api.StmtStore, Name: "x", At: testtrees.Num(1), Value: want},
 		"x = g(E);":     {Kind: api.StmtCall, Name: "x", To: "g", Args: []api.Expr{want}},
-		"x = g(1, E);":  {Kind: api.StmtCall, Name: "x", To: "g", Args: []api.Expr{num(1), want}},
+		"x = g(1, E);":  {Kind: api.StmtCall, Name: "x", To: "g", Args: []api.Expr{testtrees.Num(1), want}},
 		"x = g(E, E);":  {Kind: api.StmtCall, Name: "x", To: "g", Args: []api.Expr{want, want}},
 		"out E;":        {Kind: api.StmtOut, Value: want},
 		"if (E) { }":    {Kind: api.StmtIf, Value: want},
@@ -304,7 +305,7 @@ func TestPlacesOfExpressions(t *testing.T) {
 		checkStatements(t, strings.ReplaceAll(place, "E", "("+text+")"), stmt)
 	}
 	checkExpression(t, text, want)
-	checkExpression(t, "x["+text+"]", element("x", want))
+	checkExpression(t, "x["+text+"]", testtrees.Element("x", want))
 	checkExpression(t, "("+text+")", want)
 }
 
@@ -331,10 +332,10 @@ func TestDeepExpressions(t *testing.T) {
 		nodes, kid    int // how many nodes each repetition adds, and which kid of a node the next one is
 		innermost     api.Expr
 	}{
-		{"(", ")", 0, 0, variable("a")}, {"-", "", 1, 0, variable("a")}, {"~", "", 1, 0, variable("a")}, {"!", "", 1, 0, variable("a")},
-		{"-~!", "", 3, 0, variable("a")}, {"-(", ")", 1, 0, variable("a")}, {"x[", "]", 1, 0, variable("a")}, {"-x[(", ")]", 2, 0, variable("a")},
-		{"1-", "", 1, 0, num(1)}, {"1*", "", 1, 0, num(1)}, {"1+(", ")", 1, 1, variable("a")}, {"1>(", ")", 1, 0, variable("a")}, {"(", "*1)", 1, 0, variable("a")},
-		{"1?1:", "", 1, 2, variable("a")}, {"1?", ":1", 1, 1, variable("a")}, {"1?1:(", ")", 1, 2, variable("a")}, {"(", "?1:1)", 1, 0, variable("a")},
+		{"(", ")", 0, 0, testtrees.Var("a")}, {"-", "", 1, 0, testtrees.Var("a")}, {"~", "", 1, 0, testtrees.Var("a")}, {"!", "", 1, 0, testtrees.Var("a")},
+		{"-~!", "", 3, 0, testtrees.Var("a")}, {"-(", ")", 1, 0, testtrees.Var("a")}, {"x[", "]", 1, 0, testtrees.Var("a")}, {"-x[(", ")]", 2, 0, testtrees.Var("a")},
+		{"1-", "", 1, 0, testtrees.Num(1)}, {"1*", "", 1, 0, testtrees.Num(1)}, {"1+(", ")", 1, 1, testtrees.Var("a")}, {"1>(", ")", 1, 0, testtrees.Var("a")}, {"(", "*1)", 1, 0, testtrees.Var("a")},
+		{"1?1:", "", 1, 2, testtrees.Var("a")}, {"1?", ":1", 1, 1, testtrees.Var("a")}, {"1?1:(", ")", 1, 2, testtrees.Var("a")}, {"(", "?1:1)", 1, 0, testtrees.Var("a")},
 	} {
 		text, n := filled("func f(){return ", c.open, "a", c.closing, ";}")
 		p, err := parser.Parse(text)
@@ -343,7 +344,7 @@ func TestDeepExpressions(t *testing.T) {
 			continue
 		}
 		got, innermost := depth(p.Funcs[0].Value, c.kid)
-		if got != n*c.nodes || !equalExprs(innermost, c.innermost) {
+		if got != n*c.nodes || !testtrees.EqualExprs(innermost, c.innermost) {
 			t.Errorf("Parse(%.40q): depth %d, want %d; the innermost node is %v", text, got, n*c.nodes, innermost)
 		}
 	}

@@ -7,49 +7,13 @@ import (
 
 	"fulling/api"
 	"fulling/parser"
+	"fulling/testtrees"
 )
-
-// num, variable, element, op and cond build expressions.
-func num(n int64) api.Expr { return api.Expr{Kind: api.ExprNum, N: n} }
-
-func variable(name string) api.Expr { return api.Expr{Kind: api.ExprVar, Name: name} }
-
-func element(name string, index api.Expr) api.Expr {
-	return api.Expr{Kind: api.ExprIndex, Name: name, Kids: []api.Expr{index}}
-}
-
-func op(operation int, kids ...api.Expr) api.Expr {
-	return api.Expr{Kind: api.ExprOp, Op: operation, Kids: kids}
-}
-
-func cond(condition, then, otherwise api.Expr) api.Expr {
-	return api.Expr{Kind: api.ExprCond, Kids: []api.Expr{condition, then, otherwise}}
-}
-
-// equalExprs, equalStmts, equalFuncs and equalPrograms compare all fields. They make no difference between a nil slice and an empty one (R2).
-func equalExprs(a, b api.Expr) bool {
-	return a.Kind == b.Kind && a.N == b.N && a.Name == b.Name && a.Op == b.Op && slices.EqualFunc(a.Kids, b.Kids, equalExprs)
-}
-
-func equalStmts(a, b api.Stmt) bool {
-	return a.Kind == b.Kind && a.Name == b.Name && a.To == b.To && a.N == b.N &&
-		equalExprs(a.At, b.At) && equalExprs(a.Value, b.Value) && slices.EqualFunc(a.Args, b.Args, equalExprs) &&
-		slices.EqualFunc(a.Then, b.Then, equalStmts) && slices.EqualFunc(a.Else, b.Else, equalStmts)
-}
-
-func equalFuncs(a, b api.Func) bool {
-	return a.Name == b.Name && slices.Equal(a.Params, b.Params) && slices.Equal(a.Locals, b.Locals) &&
-		slices.EqualFunc(a.Body, b.Body, equalStmts) && equalExprs(a.Value, b.Value)
-}
-
-func equalPrograms(a, b api.Program) bool {
-	return slices.Equal(a.Arrays, b.Arrays) && slices.EqualFunc(a.Funcs, b.Funcs, equalFuncs)
-}
 
 func checkProgram(t *testing.T, text string, want api.Program) {
 	t.Helper()
 	got, err := parser.Parse(text)
-	if !equalPrograms(got, want) || err != (api.Err{}) {
+	if !testtrees.EqualPrograms(got, want) || err != (api.Err{}) {
 		t.Errorf("Parse(%.200q) = %+v, %v, want %+v", text, got, err, want)
 	}
 }
@@ -58,7 +22,7 @@ func checkProgram(t *testing.T, text string, want api.Program) {
 func checkError(t *testing.T, text string, why api.Errno, at int) {
 	t.Helper()
 	got, err := parser.Parse(text)
-	if want := (api.Err{Why: why, At: at}); !equalPrograms(got, api.Program{}) || err != want {
+	if want := (api.Err{Why: why, At: at}); !testtrees.EqualPrograms(got, api.Program{}) || err != want {
 		t.Errorf("Parse(%.200q) = %+v, %v, want %v", text, got, err, want)
 	}
 }
@@ -80,7 +44,7 @@ func inReturn(expression string) string { return "func f() { return " + expressi
 
 func checkStatements(t *testing.T, statements string, want ...api.Stmt) {
 	t.Helper()
-	checkProgram(t, inFunction(statements), api.Program{Funcs: []api.Func{{Name: "f", Body: want, Value: num(0)}}})
+	checkProgram(t, inFunction(statements), api.Program{Funcs: []api.Func{{Name: "f", Body: want, Value: testtrees.Num(0)}}})
 }
 
 func checkExpression(t *testing.T, expression string, want api.Expr) {
@@ -119,21 +83,12 @@ func levelOf(symbol string) int {
 func binary(symbol string, left, right api.Expr) api.Expr {
 	switch symbol {
 	case ">":
-		return op(api.OpLt, right, left)
+		return testtrees.Op(api.OpLt, right, left)
 	case ">=":
-		return op(api.OpLe, right, left)
+		return testtrees.Op(api.OpLe, right, left)
 	}
-	return op(map[string]int{
+	return testtrees.Op(map[string]int{
 		"|": api.OpOr, "^": api.OpXor, "&": api.OpAnd, "==": api.OpEq, "!=": api.OpNe, "<": api.OpLt, "<=": api.OpLe,
 		"<<": api.OpShl, ">>": api.OpSar, ">>>": api.OpShr, "+": api.OpAdd, "-": api.OpSub, "*": api.OpMul, "/": api.OpDiv, "%": api.OpRem,
 	}[symbol], left, right)
-}
-
-// numbers is a fixed sequence of numbers that looks random.
-type numbers uint32
-
-// below returns the next number, reduced to the range 0 to n - 1.
-func (s *numbers) below(n int) int {
-	*s = *s*1664525 + 1013904223
-	return int(*s>>8) % n
 }

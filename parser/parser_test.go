@@ -9,13 +9,14 @@ import (
 
 	"fulling/api"
 	"fulling/parser"
+	"fulling/testtrees"
 )
 
 // The examples of the chapter.
 
 func TestExamples(t *testing.T) {
-	checkProgram(t, "func f() { return 2 - -3; }", api.Program{Funcs: []api.Func{{Name: "f", Value: op(api.OpSub, num(2), num(-3))}}})
-	checkProgram(t, "func f() { return a > 1; }", api.Program{Funcs: []api.Func{{Name: "f", Value: op(api.OpLt, num(1), variable("a"))}}})
+	checkProgram(t, "func f() { return 2 - -3; }", api.Program{Funcs: []api.Func{{Name: "f", Value: testtrees.Op(api.OpSub, testtrees.Num(2), testtrees.Num(-3))}}})
+	checkProgram(t, "func f() { return a > 1; }", api.Program{Funcs: []api.Func{{Name: "f", Value: testtrees.Op(api.OpLt, testtrees.Num(1), testtrees.Var("a"))}}})
 	checkMarkedError(t, "func f() { x = f() @+ 1; return 0; }")
 }
 
@@ -45,14 +46,14 @@ func TestFunctionHeads(t *testing.T) {
 		"func f(f, f) var f, f { return 0; }":              {Name: "f", Params: []string{"f", "f"}, Locals: []string{"f", "f"}},
 		"func f # (\n ( # a\n a # ,\n , b ) { return 0; }": {Name: "f", Params: []string{"a", "b"}},
 	} {
-		want.Value = num(0)
+		want.Value = testtrees.Num(0)
 		checkProgram(t, text, api.Program{Funcs: []api.Func{want}})
 	}
 }
 
 func TestDeclarationsInAnyOrder(t *testing.T) {
 	x, y := api.Array{Name: "x", Len: 1}, api.Array{Name: "y", Len: 2}
-	f, g := api.Func{Name: "f", Value: num(1)}, api.Func{Name: "g", Value: num(2)}
+	f, g := api.Func{Name: "f", Value: testtrees.Num(1)}, api.Func{Name: "g", Value: testtrees.Num(2)}
 	texts := map[string]string{"x": "array x 1;", "y": "array y 2;", "f": "func f() { return 1; }", "g": "func g() { return 2; }"}
 	for order, want := range map[string]api.Program{
 		"x y f g": {Arrays: []api.Array{x, y}, Funcs: []api.Func{f, g}},
@@ -93,29 +94,29 @@ func TestNum(t *testing.T) {
 
 func TestEachStatement(t *testing.T) {
 	checkStatements(t, "")
-	checkStatements(t, "x = 5;", api.Stmt{Kind: api.StmtAssign, Name: "x", Value: num(5)})
-	checkStatements(t, "x = y;", api.Stmt{Kind: api.StmtAssign, Name: "x", Value: variable("y")})
-	checkStatements(t, "x = y[z];", api.Stmt{Kind: api.StmtAssign, Name: "x", Value: element("y", variable("z"))})
-	checkStatements(t, "x = (y);", api.Stmt{Kind: api.StmtAssign, Name: "x", Value: variable("y")})
+	checkStatements(t, "x = 5;", api.Stmt{Kind: api.StmtAssign, Name: "x", Value: testtrees.Num(5)})
+	checkStatements(t, "x = y;", api.Stmt{Kind: api.StmtAssign, Name: "x", Value: testtrees.Var("y")})
+	checkStatements(t, "x = y[z];", api.Stmt{Kind: api.StmtAssign, Name: "x", Value: testtrees.Element("y", testtrees.Var("z"))})
+	checkStatements(t, "x = (y);", api.Stmt{Kind: api.StmtAssign, Name: "x", Value: testtrees.Var("y")})
 	checkStatements(t, "x = g();", api.Stmt{Kind: api.StmtCall, Name: "x", To: "g"})
-	checkStatements(t, "x = g # c\n ( 1 );", api.Stmt{Kind: api.StmtCall, Name: "x", To: "g", Args: []api.Expr{num(1)}})
-	checkStatements(t, "x = x(y, 1 + 2, (3), -4);", api.Stmt{Kind: api.StmtCall, Name: "x", To: "x", Args: []api.Expr{variable("y"), op(api.OpAdd, num(1), num(2)), num(3), num(-4)}})
-	checkStatements(t, "x[y] = z;", api.Stmt{Kind: api.StmtStore, Name: "x", At: variable("y"), Value: variable("z")})
-	checkStatements(t, "x[a ? 1 : 2] = b ? 3 : 4;", api.Stmt{Kind: api.StmtStore, Name: "x", At: cond(variable("a"), num(1), num(2)), Value: cond(variable("b"), num(3), num(4))})
-	checkStatements(t, "x[y[1]] = y[2];", api.Stmt{Kind: api.StmtStore, Name: "x", At: element("y", num(1)), Value: element("y", num(2))})
-	checkStatements(t, "out x;", api.Stmt{Kind: api.StmtOut, Value: variable("x")})
-	checkStatements(t, "out(x);", api.Stmt{Kind: api.StmtOut, Value: variable("x")})
-	checkStatements(t, "out-1;", api.Stmt{Kind: api.StmtOut, Value: num(-1)})
+	checkStatements(t, "x = g # c\n ( 1 );", api.Stmt{Kind: api.StmtCall, Name: "x", To: "g", Args: []api.Expr{testtrees.Num(1)}})
+	checkStatements(t, "x = x(y, 1 + 2, (3), -4);", api.Stmt{Kind: api.StmtCall, Name: "x", To: "x", Args: []api.Expr{testtrees.Var("y"), testtrees.Op(api.OpAdd, testtrees.Num(1), testtrees.Num(2)), testtrees.Num(3), testtrees.Num(-4)}})
+	checkStatements(t, "x[y] = z;", api.Stmt{Kind: api.StmtStore, Name: "x", At: testtrees.Var("y"), Value: testtrees.Var("z")})
+	checkStatements(t, "x[a ? 1 : 2] = b ? 3 : 4;", api.Stmt{Kind: api.StmtStore, Name: "x", At: testtrees.Cond(testtrees.Var("a"), testtrees.Num(1), testtrees.Num(2)), Value: testtrees.Cond(testtrees.Var("b"), testtrees.Num(3), testtrees.Num(4))})
+	checkStatements(t, "x[y[1]] = y[2];", api.Stmt{Kind: api.StmtStore, Name: "x", At: testtrees.Element("y", testtrees.Num(1)), Value: testtrees.Element("y", testtrees.Num(2))})
+	checkStatements(t, "out x;", api.Stmt{Kind: api.StmtOut, Value: testtrees.Var("x")})
+	checkStatements(t, "out(x);", api.Stmt{Kind: api.StmtOut, Value: testtrees.Var("x")})
+	checkStatements(t, "out-1;", api.Stmt{Kind: api.StmtOut, Value: testtrees.Num(-1)})
 	checkStatements(t, "trap 3;", api.Stmt{Kind: api.StmtTrap, N: 3})
 }
 
 func TestCompoundStatements(t *testing.T) {
-	one, two, three := api.Stmt{Kind: api.StmtOut, Value: num(1)}, api.Stmt{Kind: api.StmtOut, Value: num(2)}, api.Stmt{Kind: api.StmtTrap, N: 3}
+	one, two, three := api.Stmt{Kind: api.StmtOut, Value: testtrees.Num(1)}, api.Stmt{Kind: api.StmtOut, Value: testtrees.Num(2)}, api.Stmt{Kind: api.StmtTrap, N: 3}
 	ifX := func(then, otherwise []api.Stmt) api.Stmt {
-		return api.Stmt{Kind: api.StmtIf, Value: variable("x"), Then: then, Else: otherwise}
+		return api.Stmt{Kind: api.StmtIf, Value: testtrees.Var("x"), Then: then, Else: otherwise}
 	}
 	whileX := func(body ...api.Stmt) api.Stmt {
-		return api.Stmt{Kind: api.StmtWhile, Value: variable("x"), Then: body}
+		return api.Stmt{Kind: api.StmtWhile, Value: testtrees.Var("x"), Then: body}
 	}
 	checkStatements(t, "if (x) { }", ifX(nil, nil))
 	checkStatements(t, "if (x) { } else { }", ifX(nil, nil))
@@ -130,7 +131,7 @@ func TestCompoundStatements(t *testing.T) {
 	checkStatements(t, "while (x) { while (x) { out 1; } out 2; } trap 3;", whileX(whileX(one), two), three)
 	checkStatements(t, "out 1; if (x) { out 2; } trap 3; while (x) { } out 1;", one, ifX([]api.Stmt{two}, nil), three, whileX(), one)
 	checkStatements(t, "if (1 + x ? 2 : 3) { } while ((x)) { }",
-		api.Stmt{Kind: api.StmtIf, Value: cond(op(api.OpAdd, num(1), variable("x")), num(2), num(3))}, whileX())
+		api.Stmt{Kind: api.StmtIf, Value: testtrees.Cond(testtrees.Op(api.OpAdd, testtrees.Num(1), testtrees.Var("x")), testtrees.Num(2), testtrees.Num(3))}, whileX())
 }
 
 // Promise 3.1: reserved words.
@@ -181,10 +182,10 @@ func checkIsName(t *testing.T, name string) {
 	checkProgram(t, strings.ReplaceAll(text, "N", name), api.Program{Funcs: []api.Func{{
 		Name: name, Params: []string{name}, Locals: []string{name},
 		Body: []api.Stmt{
-			{Kind: api.StmtAssign, Name: name, Value: variable(name)},
-			{Kind: api.StmtCall, Name: name, To: name, Args: []api.Expr{variable(name)}},
-			{Kind: api.StmtStore, Name: name, At: variable(name), Value: element(name, variable(name))},
-		}, Value: variable(name),
+			{Kind: api.StmtAssign, Name: name, Value: testtrees.Var(name)},
+			{Kind: api.StmtCall, Name: name, To: name, Args: []api.Expr{testtrees.Var(name)}},
+			{Kind: api.StmtStore, Name: name, At: testtrees.Var(name), Value: testtrees.Element(name, testtrees.Var(name))},
+		}, Value: testtrees.Var(name),
 	}}})
 }
 
@@ -194,10 +195,10 @@ func TestNamesAreNotChecked(t *testing.T) {
 	checkProgram(t, "array x 0; array x 1000000; func x(x, x) var x { x = y; x = z(); y[1] = y; return z[w]; } func x() { return 0; }", api.Program{
 		Arrays: []api.Array{{Name: "x"}, {Name: "x", Len: 1000000}},
 		Funcs: []api.Func{{Name: "x", Params: []string{"x", "x"}, Locals: []string{"x"}, Body: []api.Stmt{
-			{Kind: api.StmtAssign, Name: "x", Value: variable("y")},
+			{Kind: api.StmtAssign, Name: "x", Value: testtrees.Var("y")},
 			{Kind: api.StmtCall, Name: "x", To: "z"},
-			{Kind: api.StmtStore, Name: "y", At: num(1), Value: variable("y")},
-		}, Value: element("z", variable("w"))}, {Name: "x", Value: num(0)}},
+			{Kind: api.StmtStore, Name: "y", At: testtrees.Num(1), Value: testtrees.Var("y")},
+		}, Value: testtrees.Element("z", testtrees.Var("w"))}, {Name: "x", Value: testtrees.Num(0)}},
 	})
 }
 
@@ -205,12 +206,12 @@ func TestCountsAreNotLimited(t *testing.T) {
 	repeat := func(part string, n int) string { return strings.Repeat(part, n) }
 	const many = 900
 	checkProgram(t, repeat("array x 7;", many), api.Program{Arrays: slices.Repeat([]api.Array{{Name: "x", Len: 7}}, many)})
-	checkProgram(t, repeat("func f(){return 0;}", many), api.Program{Funcs: slices.Repeat([]api.Func{{Name: "f", Value: num(0)}}, many)})
+	checkProgram(t, repeat("func f(){return 0;}", many), api.Program{Funcs: slices.Repeat([]api.Func{{Name: "f", Value: testtrees.Num(0)}}, many)})
 	checkProgram(t, "func f(a"+repeat(", a", many)+") var b"+repeat(",b", many)+" { return 0; }", api.Program{Funcs: []api.Func{{
-		Name: "f", Params: slices.Repeat([]string{"a"}, many+1), Locals: slices.Repeat([]string{"b"}, many+1), Value: num(0)}}})
-	checkStatements(t, repeat("x = 0;", many), slices.Repeat([]api.Stmt{{Kind: api.StmtAssign, Name: "x", Value: num(0)}}, many)...)
-	checkStatements(t, repeat("while (1) { }", many), slices.Repeat([]api.Stmt{{Kind: api.StmtWhile, Value: num(1)}}, many)...)
-	checkStatements(t, "x = g(1"+repeat(", 1", many)+");", api.Stmt{Kind: api.StmtCall, Name: "x", To: "g", Args: slices.Repeat([]api.Expr{num(1)}, many+1)})
+		Name: "f", Params: slices.Repeat([]string{"a"}, many+1), Locals: slices.Repeat([]string{"b"}, many+1), Value: testtrees.Num(0)}}})
+	checkStatements(t, repeat("x = 0;", many), slices.Repeat([]api.Stmt{{Kind: api.StmtAssign, Name: "x", Value: testtrees.Num(0)}}, many)...)
+	checkStatements(t, repeat("while (1) { }", many), slices.Repeat([]api.Stmt{{Kind: api.StmtWhile, Value: testtrees.Num(1)}}, many)...)
+	checkStatements(t, "x = g(1"+repeat(", 1", many)+");", api.Stmt{Kind: api.StmtCall, Name: "x", To: "g", Args: slices.Repeat([]api.Expr{testtrees.Num(1)}, many+1)})
 }
 
 // R1, R2 and R4.
@@ -277,7 +278,7 @@ func TestResultsAreEqualForEqualTexts(t *testing.T) {
 	first, _ := parser.Parse(mixedProgram)
 	_, err := parser.Parse("array")
 	second, _ := parser.Parse(mixedProgram)
-	if !equalPrograms(first, second) || len(first.Funcs) != 4 || err == (api.Err{}) {
+	if !testtrees.EqualPrograms(first, second) || len(first.Funcs) != 4 || err == (api.Err{}) {
 		t.Errorf("%+v and %+v, %v", first, second, err)
 	}
 }

@@ -5,56 +5,57 @@ import (
 	"testing"
 
 	"fulling/api"
+	"fulling/testtrees"
 )
 
 // These tests make up syntax trees, write each as text in one of the ways that the chapter allows, and expect Parse to return the tree.
 
 // inventor makes up programs. Its choices follow a fixed sequence of numbers.
-type inventor struct{ numbers }
+type inventor struct{ testtrees.Numbers }
 
 func (v *inventor) name() string {
-	return []string{"a", "b", "x", "Y_1", "_", "abcdefghijklmnop", "iff", "returns"}[v.below(8)]
+	return []string{"a", "b", "x", "Y_1", "_", "abcdefghijklmnop", "iff", "returns"}[v.Below(8)]
 }
 
 func (v *inventor) names(most int) []string {
 	var result []string
-	for range v.below(most + 1) {
+	for range v.Below(most + 1) {
 		result = append(result, v.name())
 	}
 	return result
 }
 
 func (v *inventor) number() int64 {
-	return []int64{0, 0, 1, 7, 1000001, 1<<63 - 1, -1, -12, -1<<63 + 1, -1 << 63}[v.below(10)]
+	return []int64{0, 0, 1, 7, 1000001, 1<<63 - 1, -1, -12, -1<<63 + 1, -1 << 63}[v.Below(10)]
 }
 
 // expr returns an expression of at most the given depth.
 func (v *inventor) expr(depth int) api.Expr {
-	if depth == 0 || v.below(6) == 0 {
-		if v.below(2) == 0 {
-			return num(v.number())
+	if depth == 0 || v.Below(6) == 0 {
+		if v.Below(2) == 0 {
+			return testtrees.Num(v.number())
 		}
-		return variable(v.name())
+		return testtrees.Var(v.name())
 	}
-	switch v.below(8) {
+	switch v.Below(8) {
 	case 0:
-		return element(v.name(), v.expr(depth-1))
+		return testtrees.Element(v.name(), v.expr(depth-1))
 	case 1:
-		return op(api.OpNeg, v.expr(depth-1))
+		return testtrees.Op(api.OpNeg, v.expr(depth-1))
 	case 2:
-		return op(api.OpNot, v.expr(depth-1))
+		return testtrees.Op(api.OpNot, v.expr(depth-1))
 	case 3:
-		return op(api.OpEq, v.expr(depth-1), num(0))
+		return testtrees.Op(api.OpEq, v.expr(depth-1), testtrees.Num(0))
 	case 4:
-		return cond(v.expr(depth-1), v.expr(depth-1), v.expr(depth-1))
+		return testtrees.Cond(v.expr(depth-1), v.expr(depth-1), v.expr(depth-1))
 	}
 	symbols := binarySymbols()
-	return binary(symbols[v.below(len(symbols))], v.expr(depth-1), v.expr(depth-1))
+	return binary(symbols[v.Below(len(symbols))], v.expr(depth-1), v.expr(depth-1))
 }
 
 func (v *inventor) exprs(most int) []api.Expr {
 	var result []api.Expr
-	for range v.below(most + 1) {
+	for range v.Below(most + 1) {
 		result = append(result, v.expr(3))
 	}
 	return result
@@ -62,7 +63,7 @@ func (v *inventor) exprs(most int) []api.Expr {
 
 func (v *inventor) stmts(depth int) []api.Stmt {
 	var result []api.Stmt
-	for range v.below(4) {
+	for range v.Below(4) {
 		result = append(result, v.stmt(depth))
 	}
 	return result
@@ -70,9 +71,9 @@ func (v *inventor) stmts(depth int) []api.Stmt {
 
 // stmt returns a statement that contains others to at most the given depth.
 func (v *inventor) stmt(depth int) api.Stmt {
-	kind := v.below(7)
+	kind := v.Below(7)
 	if depth == 0 {
-		kind = v.below(5)
+		kind = v.Below(5)
 	}
 	switch kind {
 	case 0:
@@ -84,7 +85,7 @@ func (v *inventor) stmt(depth int) api.Stmt {
 	case 3:
 		return api.Stmt{Kind: api.StmtCall, Name: v.name(), To: v.name(), Args: v.exprs(3)}
 	case 4:
-		return api.Stmt{Kind: api.StmtTrap, N: []int{0, 1, 16, 1000000}[v.below(4)]}
+		return api.Stmt{Kind: api.StmtTrap, N: []int{0, 1, 16, 1000000}[v.Below(4)]}
 	case 5:
 		return api.Stmt{Kind: api.StmtIf, Value: v.expr(3), Then: v.stmts(depth - 1), Else: v.stmts(depth - 1)}
 	}
@@ -93,10 +94,10 @@ func (v *inventor) stmt(depth int) api.Stmt {
 
 func (v *inventor) program() api.Program {
 	var result api.Program
-	for range v.below(3) {
-		result.Arrays = append(result.Arrays, api.Array{Name: v.name(), Len: v.below(1000001)})
+	for range v.Below(3) {
+		result.Arrays = append(result.Arrays, api.Array{Name: v.name(), Len: v.Below(1000001)})
 	}
-	for range v.below(3) {
+	for range v.Below(3) {
 		result.Funcs = append(result.Funcs, api.Func{Name: v.name(), Params: v.names(3), Locals: v.names(3), Body: v.stmts(3), Value: v.expr(5)})
 	}
 	return result
@@ -104,7 +105,7 @@ func (v *inventor) program() api.Program {
 
 // writer writes programs as tokens. Where the language offers a choice, it chooses by a fixed sequence of numbers.
 type writer struct {
-	numbers
+	testtrees.Numbers
 	tokens []string
 }
 
@@ -120,7 +121,7 @@ const (
 // expr writes e where an expression of at least the given level is expected.
 func (w *writer) expr(e api.Expr, level int) {
 	symbol, kids := w.form(e)
-	if own := ownLevel(e, symbol); own < level || w.below(8) == 0 {
+	if own := ownLevel(e, symbol); own < level || w.Below(8) == 0 {
 		w.write("(")
 		defer w.write(")")
 	}
@@ -163,16 +164,16 @@ func (w *writer) form(e api.Expr) (string, []api.Expr) {
 		return "-", e.Kids
 	case e.Op == api.OpNot:
 		return "~", e.Kids
-	case e.Op == api.OpEq && equalExprs(e.Kids[1], num(0)) && w.below(2) == 0:
+	case e.Op == api.OpEq && testtrees.EqualExprs(e.Kids[1], testtrees.Num(0)) && w.Below(2) == 0:
 		return "!", e.Kids[:1]
-	case e.Op == api.OpLt && w.below(2) == 0:
+	case e.Op == api.OpLt && w.Below(2) == 0:
 		return ">", []api.Expr{e.Kids[1], e.Kids[0]}
-	case e.Op == api.OpLe && w.below(2) == 0:
+	case e.Op == api.OpLe && w.Below(2) == 0:
 		return ">=", []api.Expr{e.Kids[1], e.Kids[0]}
 	}
 	for _, symbol := range binarySymbols() {
 		if symbol[0] != '>' || symbol == ">>" || symbol == ">>>" {
-			if binary(symbol, num(1), num(2)).Op == e.Op {
+			if binary(symbol, testtrees.Num(1), testtrees.Num(2)).Op == e.Op {
 				return symbol, e.Kids
 			}
 		}
@@ -260,7 +261,7 @@ func (w *writer) compound(s api.Stmt) {
 	w.expr(s.Value, condLevel)
 	w.write(")")
 	w.block(s.Then)
-	if len(s.Else) > 0 || s.Kind == api.StmtIf && w.below(3) == 0 {
+	if len(s.Else) > 0 || s.Kind == api.StmtIf && w.Below(3) == 0 {
 		w.write("else")
 		w.block(s.Else)
 	}
@@ -288,7 +289,7 @@ func (w *writer) function(f api.Func) {
 // program mixes arrays and functions.
 func (w *writer) program(p api.Program) {
 	for len(p.Arrays)+len(p.Funcs) > 0 {
-		if len(p.Funcs) == 0 || len(p.Arrays) > 0 && w.below(2) == 0 {
+		if len(p.Funcs) == 0 || len(p.Arrays) > 0 && w.Below(2) == 0 {
 			w.array(p.Arrays[0])
 			p.Arrays = p.Arrays[1:]
 		} else {
@@ -304,7 +305,7 @@ func (w *writer) text() string {
 	separators := []string{"", "", " ", "\n", "\t", "\r\n", "   ", "# ( x\n", " #\n # 1 } \n"}
 	last := byte(' ')
 	for _, token := range w.tokens {
-		separator := separators[w.below(len(separators))]
+		separator := separators[w.Below(len(separators))]
 		if separator == "" && (isWordByte(last) && isWordByte(token[0]) || strings.IndexByte("<>=!", last) >= 0 && strings.IndexByte("<>=", token[0]) >= 0) {
 			separator = " "
 		}
@@ -315,7 +316,7 @@ func (w *writer) text() string {
 }
 
 func TestWrittenExpressions(t *testing.T) {
-	v, w := &inventor{1}, &writer{numbers: 2}
+	v, w := &inventor{1}, &writer{Numbers: 2}
 	for i := range 20000 {
 		want := v.expr(1 + i%6)
 		w.tokens = nil
@@ -325,7 +326,7 @@ func TestWrittenExpressions(t *testing.T) {
 }
 
 func TestWrittenPrograms(t *testing.T) {
-	v, w := &inventor{3}, &writer{numbers: 4}
+	v, w := &inventor{3}, &writer{Numbers: 4}
 	checked := 0
 	for range 3000 {
 		want := v.program()
@@ -343,7 +344,7 @@ func TestWrittenPrograms(t *testing.T) {
 
 // TestRandomTokens compares the parser with the recognizer on sequences of tokens that are mostly no programs.
 func TestRandomTokens(t *testing.T) {
-	v, w, tokens := &inventor{5}, &writer{numbers: 6}, allTokens()
+	v, w, tokens := &inventor{5}, &writer{Numbers: 6}, allTokens()
 	for range 300 {
 		w.tokens = nil
 		w.program(v.program())
@@ -351,7 +352,7 @@ func TestRandomTokens(t *testing.T) {
 			continue
 		}
 		for range 5 {
-			w.tokens[v.below(len(w.tokens))] = tokens[v.below(len(tokens))]
+			w.tokens[v.Below(len(w.tokens))] = tokens[v.Below(len(tokens))]
 			newRecognizer().compare(t, w.tokens, 0)
 		}
 	}
