@@ -92,7 +92,7 @@ func TestArgumentIsNotChanged(t *testing.T) {
 		{api.ErrUndefined, func(p *api.Program) { p.Funcs[1].Value = testtrees.Var("a") }},
 		{api.ErrArity, func(p *api.Program) { p.Funcs[0].Body[1].Args = p.Funcs[0].Body[1].Args[:1] }},
 	} {
-		p, same := parse(t, text), parse(t, text)
+		p, same := testtrees.MustParse(t, text), testtrees.MustParse(t, text)
 		for _, q := range []*api.Program{&p, &same} {
 			c.change(q)
 			q.Arrays = append(q.Arrays, api.Array{Name: "spare", Len: 7})[:2]
@@ -153,7 +153,7 @@ func TestGreatWidth(t *testing.T) {
 	}
 	check(t, "arguments", withBody(call(list...)), api.ErrArity)
 	check(t, "operands", returning(testtrees.Op(api.OpAdd, list...)), api.ErrSyntax)
-	list[huge-1] = chain(api.MaxDeep+1, testtrees.Num(1), negated)
+	list[huge-1] = testtrees.Nested(api.MaxDeep+1, testtrees.Num(1), negated)
 	check(t, "deep last argument", withBody(call(list...)), api.ErrLimit)
 	check(t, "deep last operand", returning(testtrees.Op(api.OpAdd, list...)), api.ErrLimit)
 

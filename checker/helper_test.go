@@ -5,7 +5,6 @@ import (
 
 	"fulling/api"
 	"fulling/checker"
-	"fulling/parser"
 	"fulling/testtrees"
 )
 
@@ -37,16 +36,6 @@ func returning(value api.Expr) api.Program {
 	return p
 }
 
-// parse returns the tree of a text that the parser accepts.
-func parse(t *testing.T, text string) api.Program {
-	t.Helper()
-	p, err := parser.Parse(text)
-	if err.Why != api.OK {
-		t.Fatalf("wrong test: Parse(%.200q) = %v", text, err)
-	}
-	return p
-}
-
 func check(t *testing.T, what string, p api.Program, want api.Errno) {
 	t.Helper()
 	if got := checker.Check(p); got != want {
@@ -57,6 +46,6 @@ func check(t *testing.T, what string, p api.Program, want api.Errno) {
 func checkTexts(t *testing.T, want api.Errno, texts ...string) {
 	t.Helper()
 	for _, text := range texts {
-		check(t, text, parse(t, text), want)
+		check(t, text, testtrees.MustParse(t, text), want)
 	}
 }

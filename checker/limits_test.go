@@ -170,14 +170,6 @@ func TestLimitsCountForEachFunction(t *testing.T) {
 	}
 }
 
-// nested returns a statement that is nested in n others.
-func nested(n int, s api.Stmt, around func(api.Stmt) api.Stmt) api.Stmt {
-	for range n {
-		s = around(s)
-	}
-	return s
-}
-
 func TestLimitsOfNestedStatements(t *testing.T) {
 	inThen := func(s api.Stmt) api.Stmt { return branch([]api.Stmt{s}, nil) }
 	inElse := func(s api.Stmt) api.Stmt { return branch(nil, []api.Stmt{s}) }
@@ -187,25 +179,17 @@ func TestLimitsOfNestedStatements(t *testing.T) {
 	elseIf := func(s api.Stmt) api.Stmt { return branch(traps(1), []api.Stmt{testtrees.Trap(1), s}) }
 	for i, around := range []func(api.Stmt) api.Stmt{inThen, inElse, behind, elseIf} {
 		checkLimit(t, fmt.Sprint("enclosing statements, form ", i), api.MaxDeep, func(n int) api.Program {
-			return withBody(testtrees.Trap(1), nested(n, testtrees.Trap(1), around), testtrees.Trap(2))
+			return withBody(testtrees.Trap(1), testtrees.Nested(n, testtrees.Trap(1), around), testtrees.Trap(2))
 		})
 	}
 	checkLimit(t, "enclosing statements with loops", api.MaxDeep, func(n int) api.Program {
-		inLoops := nested(api.MaxLoops, testtrees.Trap(1), func(s api.Stmt) api.Stmt { return loop(s) })
-		return withBody(nested(n-api.MaxLoops, inLoops, inElse))
+		inLoops := testtrees.Nested(api.MaxLoops, testtrees.Trap(1), func(s api.Stmt) api.Stmt { return loop(s) })
+		return withBody(testtrees.Nested(n-api.MaxLoops, inLoops, inElse))
 	})
-	checkLimit(t, "enclosing statements of an empty loop", api.MaxDeep, func(n int) api.Program { return withBody(nested(n, loop(), inThen)) })
+	checkLimit(t, "enclosing statements of an empty loop", api.MaxDeep, func(n int) api.Program { return withBody(testtrees.Nested(n, loop(), inThen)) })
 }
 
 // Expressions.
-
-// chain returns a node that is nested in n others.
-func chain(n int, e api.Expr, around func(api.Expr) api.Expr) api.Expr {
-	for range n {
-		e = around(e)
-	}
-	return e
-}
 
 func negated(e api.Expr) api.Expr { return testtrees.Op(api.OpNeg, e) }
 
@@ -255,11 +239,11 @@ func expressionPlaces() map[string]func(api.Expr) api.Program {
 		"the last argument":   func(e api.Expr) api.Program { return callingWithThree(one, one, e) },
 		"all arguments":       func(e api.Expr) api.Program { return callingWithThree(e, e, e) },
 		"the deepest statement": func(e api.Expr) api.Program {
-			return withBody(nested(api.MaxDeep, testtrees.Out(e), func(s api.Stmt) api.Stmt { return branch(nil, []api.Stmt{s}) }))
+			return withBody(testtrees.Nested(api.MaxDeep, testtrees.Out(e), func(s api.Stmt) api.Stmt { return branch(nil, []api.Stmt{s}) }))
 		},
 		"the last statement": func(e api.Expr) api.Program { return withBody(append(traps(api.MaxStmts-1), testtrees.Out(e))...) },
 		"the result of the last function": func(e api.Expr) api.Program {
-			p := returning(chain(api.MaxDeep, one, negated))
+			p := returning(testtrees.Nested(api.MaxDeep, one, negated))
 			p.Funcs = append(p.Funcs, api.Func{Name: "g", Params: []string{"a"}, Value: e})
 			return p
 		},
@@ -270,12 +254,12 @@ func TestLimitsOfNestedExpressions(t *testing.T) {
 	for where, place := range expressionPlaces() {
 		for i, around := range surroundings() {
 			for _, leaf := range []api.Expr{testtrees.Num(1), testtrees.Var("a")} {
-				checkLimit(t, fmt.Sprintf("enclosing nodes of form %d, %s", i, where), api.MaxDeep, func(n int) api.Program { return place(chain(n, leaf, around)) })
+				checkLimit(t, fmt.Sprintf("enclosing nodes of form %d, %s", i, where), api.MaxDeep, func(n int) api.Program { return place(testtrees.Nested(n, leaf, around)) })
 			}
 		}
 		checkLimit(t, "enclosing nodes of mixed forms, "+where, api.MaxDeep, func(n int) api.Program {
 			next := 0
-			return place(chain(n, testtrees.Num(1), func(e api.Expr) api.Expr {
+			return place(testtrees.Nested(n, testtrees.Num(1), func(e api.Expr) api.Expr {
 				next++
 				return surroundings()[next%len(surroundings())](e)
 			}))
@@ -306,14 +290,14 @@ func TestLimitsWhateverTheKind(t *testing.T) {
 		checkLimitOfInvalid(t, "loops in both "+what, api.MaxLoops, api.ErrSyntax, func(n int) api.Program { return in(loops(7), loops(n-own-7)) })
 		if kind != api.StmtWhile {
 			checkLimitOfInvalid(t, "enclosing statements of kind "+what, api.MaxDeep, api.ErrSyntax, func(n int) api.Program {
-				return withBody(nested(n, testtrees.Trap(-1), func(s api.Stmt) api.Stmt { return api.Stmt{Kind: kind, Then: []api.Stmt{s}} }))
+				return withBody(testtrees.Nested(n, testtrees.Trap(-1), func(s api.Stmt) api.Stmt { return api.Stmt{Kind: kind, Then: []api.Stmt{s}} }))
 			})
 			checkLimitOfInvalid(t, "enclosing statements, in Else, of kind "+what, api.MaxDeep, api.ErrSyntax, func(n int) api.Program {
-				return withBody(nested(n, testtrees.Trap(-1), func(s api.Stmt) api.Stmt { return api.Stmt{Kind: kind, Else: []api.Stmt{s}} }))
+				return withBody(testtrees.Nested(n, testtrees.Trap(-1), func(s api.Stmt) api.Stmt { return api.Stmt{Kind: kind, Else: []api.Stmt{s}} }))
 			})
 		}
 		checkLimitOfInvalid(t, "nodes in Kids of kind "+what, api.MaxDeep, api.ErrSyntax, func(n int) api.Program {
-			return returning(chain(n, api.Expr{Kind: kind, N: 3, Name: "a", Op: 5}, func(e api.Expr) api.Expr { return api.Expr{Kind: kind, Kids: []api.Expr{{}, e}} }))
+			return returning(testtrees.Nested(n, api.Expr{Kind: kind, N: 3, Name: "a", Op: 5}, func(e api.Expr) api.Expr { return api.Expr{Kind: kind, Kids: []api.Expr{{}, e}} }))
 		})
 	}
 }
@@ -333,7 +317,7 @@ func TestLimitsOfUnusedExpressions(t *testing.T) {
 			for _, leaf := range []api.Expr{{}, testtrees.Num(1), {Kind: -1}, {Kind: 6, Name: "1"}} {
 				checkLimitOfInvalid(t, fmt.Sprintf("enclosing nodes in %s of kind %d", field, kind), api.MaxDeep, api.ErrSyntax, func(n int) api.Program {
 					s := api.Stmt{Kind: kind, N: -1}
-					fill(&s, chain(n, leaf, func(e api.Expr) api.Expr { return api.Expr{Kids: []api.Expr{e}} }))
+					fill(&s, testtrees.Nested(n, leaf, func(e api.Expr) api.Expr { return api.Expr{Kids: []api.Expr{e}} }))
 					return withBody(s)
 				})
 			}

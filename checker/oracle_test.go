@@ -115,7 +115,7 @@ func (v *inventor) change(program *api.Program) {
 		}
 	case 13:
 		e := testtrees.OneOf(&v.Numbers, p.exprs...)
-		*e = chain(15+v.Below(7), *e, testtrees.OneOf(&v.Numbers, surroundings()...))
+		*e = testtrees.Nested(15+v.Below(7), *e, testtrees.OneOf(&v.Numbers, surroundings()...))
 	}
 }
 
@@ -138,7 +138,7 @@ func (v *inventor) changeStmt(s *api.Stmt) {
 	case 1:
 		s.N = testtrees.OneOf(&v.Numbers, -1, 0, 1, 1_000_001)
 	case 2:
-		*s = nested(17+v.Below(5), *s, func(s api.Stmt) api.Stmt { return branch(nil, []api.Stmt{s}) })
+		*s = testtrees.Nested(17+v.Below(5), *s, func(s api.Stmt) api.Stmt { return branch(nil, []api.Stmt{s}) })
 	}
 }
 

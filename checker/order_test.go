@@ -124,7 +124,7 @@ func valueFlaw(why api.Errno, what string, e api.Expr) flaw {
 
 // flaws returns flaws of every reason that the chapter lists, in the order of their errors.
 func flaws() []flaw {
-	deep := chain(api.MaxDeep+1, testtrees.Num(1), negated)
+	deep := testtrees.Nested(api.MaxDeep+1, testtrees.Num(1), negated)
 	one := testtrees.Num(1)
 	callOf := func(to string, args ...api.Expr) api.Stmt {
 		return testtrees.Call("v", to, args...)
@@ -138,7 +138,7 @@ func flaws() []flaw {
 		localFlaw(api.ErrLimit, "too many local variables", namesFrom("l", api.MaxLocals+1)...),
 		stmtFlaw(api.ErrLimit, "too many statements", traps(api.MaxStmts+1)...),
 		stmtFlaw(api.ErrLimit, "too many loops", loops(api.MaxLoops+1)...),
-		stmtFlaw(api.ErrLimit, "too deep statement", nested(api.MaxDeep+1, testtrees.Trap(1), func(s api.Stmt) api.Stmt { return branch([]api.Stmt{s}, nil) })),
+		stmtFlaw(api.ErrLimit, "too deep statement", testtrees.Nested(api.MaxDeep+1, testtrees.Trap(1), func(s api.Stmt) api.Stmt { return branch([]api.Stmt{s}, nil) })),
 		stmtFlaw(api.ErrLimit, "too deep value", testtrees.Out(deep)),
 		stmtFlaw(api.ErrLimit, "too deep argument", callOf("f", deep)),
 		valueFlaw(api.ErrLimit, "too deep result", deep),
@@ -254,7 +254,7 @@ func TestErrorsAtOnePlace(t *testing.T) {
 	)
 	invalid := []api.Expr{{Kind: 9}, {}, {Kind: api.ExprVar, Name: "1"}}
 	for i, e := range invalid {
-		check(t, fmt.Sprint("deep and invalid ", i), returning(chain(api.MaxDeep+1, e, negated)), api.ErrLimit)
+		check(t, fmt.Sprint("deep and invalid ", i), returning(testtrees.Nested(api.MaxDeep+1, e, negated)), api.ErrLimit)
 		check(t, fmt.Sprint("undefined beside invalid ", i), returning(testtrees.Op(api.OpAdd, testtrees.Var("z"), e)), api.ErrSyntax)
 		check(t, fmt.Sprint("invalid argument of an undefined function ", i), withBody(testtrees.Call("a", "z", e)), api.ErrSyntax)
 		check(t, fmt.Sprint("invalid argument of a wrong number ", i), withBody(call(testtrees.Num(1), e)), api.ErrSyntax)

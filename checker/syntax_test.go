@@ -325,7 +325,7 @@ func statementPlaces() map[string]func(s api.Stmt) api.Program {
 			return withBody(loop(testtrees.Trap(1)), loop(testtrees.Trap(1), loop(s)))
 		},
 		"deepest": func(s api.Stmt) api.Program {
-			return withBody(nested(api.MaxDeep-1, s, func(s api.Stmt) api.Stmt { return branch(nil, []api.Stmt{s}) }))
+			return withBody(testtrees.Nested(api.MaxDeep-1, s, func(s api.Stmt) api.Stmt { return branch(nil, []api.Stmt{s}) }))
 		},
 		"in the last function": func(s api.Stmt) api.Program {
 			p := withBody(testtrees.Trap(1))

@@ -44,3 +44,11 @@ func Call(name, to string, args ...api.Expr) api.Stmt {
 }
 
 func Trap(n int) api.Stmt { return api.Stmt{Kind: api.StmtTrap, N: n} }
+
+// Nested returns what is inside of n layers.
+func Nested[T any](n int, inside T, around func(T) T) T {
+	for range n {
+		inside = around(inside)
+	}
+	return inside
+}
