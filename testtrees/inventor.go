@@ -11,12 +11,14 @@ type Inventor struct {
 	Numbers
 	scope
 	room
+	tame bool
 }
 
 // scope lists what the statements and expressions of a function may use.
 type scope struct {
-	arrays, variables []string
-	functions         []api.Func // without bodies
+	arrays    []api.Array
+	variables []string
+	functions []api.Func // without bodies
 }
 
 // room is how many statements and loops still fit into a function.
@@ -31,7 +33,7 @@ func (v *Inventor) Program() api.Program {
 			{Name: "g", Params: []string{"a"}, Locals: []string{"b", "c"}},
 		},
 	}
-	v.scope = scope{[]string{"x", "y"}, []string{"a", "b"}, slices.Clone(p.Funcs)}
+	v.scope = scope{p.Arrays, []string{"a", "b"}, slices.Clone(p.Funcs)}
 	v.fill(&p.Funcs[0], 2, 3)
 	v.fill(&p.Funcs[1], 1, 2)
 	return p
@@ -44,14 +46,14 @@ func (v *Inventor) VariedProgram() api.Program {
 	for _, name := range names[:v.Below(api.MaxArrays+1)] {
 		p.Arrays = append(p.Arrays, api.Array{Name: name, Len: 1 + v.Below(api.MaxLen)})
 	}
-	arrays, others := names[:len(p.Arrays)], names[len(p.Arrays):]
+	others := names[len(p.Arrays):]
 	for _, name := range v.names()[:v.Below(api.MaxFuncs+1)] {
 		params, locals := v.Below(api.MaxParams+1), v.Below(api.MaxLocals+1)
 		p.Funcs = append(p.Funcs, api.Func{Name: name, Params: slices.Clone(others[:params]), Locals: slices.Clone(others[params:][:locals])})
 	}
 	for i := range p.Funcs {
 		f := &p.Funcs[i]
-		v.scope = scope{arrays, slices.Concat(f.Params, f.Locals), p.Funcs}
+		v.scope = scope{p.Arrays, slices.Concat(f.Params, f.Locals), v.callees(p.Funcs, i)}
 		v.fill(f, v.Below(6), v.Below(6))
 	}
 	return p
@@ -82,7 +84,8 @@ func (v *Inventor) Expr(depth int) api.Expr {
 	switch v.Below(6) {
 	case 0:
 		if len(v.arrays) > 0 {
-			return Element(OneOf(&v.Numbers, v.arrays...), v.Expr(depth-1))
+			array := OneOf(&v.Numbers, v.arrays...)
+			return Element(array.Name, v.index(array, depth-1))
 		}
 		return v.leaf()
 	case 1:
@@ -90,7 +93,8 @@ func (v *Inventor) Expr(depth int) api.Expr {
 	case 2:
 		return Cond(v.Expr(depth-1), v.Expr(depth-1), v.Expr(depth-1))
 	}
-	return Op(api.OpAdd+v.Below(api.OpLe-api.OpAdd+1), v.Expr(depth-1), v.Expr(depth-1))
+	operation := api.OpAdd + v.Below(api.OpLe-api.OpAdd+1)
+	return Op(operation, v.Expr(depth-1), v.rightOperand(operation, depth-1))
 }
 
 func (v *Inventor) leaf() api.Expr {
@@ -114,16 +118,17 @@ func (v *Inventor) Stmt(depth int) api.Stmt {
 	case kind == 0 && len(v.variables) > 0:
 		return Assign(v.variable(), v.Expr(2))
 	case kind == 1 && len(v.arrays) > 0:
-		return Store(OneOf(&v.Numbers, v.arrays...), v.Expr(2), v.Expr(2))
-	case kind == 2:
+		array := OneOf(&v.Numbers, v.arrays...)
+		return Store(array.Name, v.index(array, 2), v.Expr(2))
+	case kind == 2 && !v.avoids():
 		return Trap(OneOf(&v.Numbers, 0, 3, 1_000_000))
-	case kind == 3 && len(v.variables) > 0:
+	case kind == 3 && len(v.variables) > 0 && len(v.functions) > 0:
 		return v.call()
 	case kind == 5:
 		return If(v.Expr(2), v.stmts(depth-1), v.stmts(depth-1))
 	case kind == 6:
 		v.loops--
-		return While(v.Expr(2), v.stmts(depth-1)...)
+		return v.loop(depth - 1)
 	}
 	return Out(v.Expr(2))
 }
